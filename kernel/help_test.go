@@ -85,32 +85,23 @@ func sameState(a, b api.State) bool {
 	return reflect.DeepEqual(a, b)
 }
 
-// checkBooks looks whether each frame is used once and as it says, and the ends are counted right (P13, P3).
+// checkBooks looks whether all that State tells fits together (P13, P3).
 func checkBooks(t *testing.T, s api.State) {
 	t.Helper()
-	want := make([]api.Frame, len(s.Frames))
-	for i := range want {
-		want[i] = api.Frame{Kind: api.Free, Owner: -1}
-	}
-	use := func(frame, kind, owner int) {
-		if want[frame].Kind != api.Free {
-			t.Fatalf("frame %d is used twice: %+v", frame, s)
-		}
-		want[frame] = api.Frame{Kind: kind, Owner: owner, Words: s.Frames[frame].Words}
-	}
-	ends := make([]api.Duct, len(s.Ducts))
+	checkSlots(t, s)
+	checkDucts(t, s)
+	checkFrames(t, s)
+}
+
+// checkSlots: what is not there tells nothing.
+func checkSlots(t *testing.T, s api.State) {
+	t.Helper()
 	for i, slot := range s.Slots {
-		if slot.Kind == api.None {
-			if slot != emptySlot() {
-				t.Fatalf("the process %d is None, and has %+v", i, slot)
-			}
-			continue
+		if slot.Kind == api.None && slot != emptySlot() {
+			t.Fatalf("the process %d is None, and has %+v", i, slot)
 		}
-		use(slot.Table, api.Table, i)
 		for j, e := range slot.Pages {
-			if e.Frame != -1 {
-				use(e.Frame, api.Data, i)
-			} else if e.Writes {
+			if e.Frame == -1 && e.Writes {
 				t.Fatalf("page %d of the process %d has no frame, and may be written", j, i)
 			}
 		}
@@ -118,29 +109,70 @@ func checkBooks(t *testing.T, s api.State) {
 			if f.Pipe == -1 && f.Writes {
 				t.Fatalf("file %d of the process %d is none, and writes", j, i)
 			}
-			if f.Pipe != -1 && f.Writes {
-				ends[f.Pipe].Writers++
-			} else if f.Pipe != -1 {
-				ends[f.Pipe].Readers++
+		}
+	}
+}
+
+// countEnds counts the files that read a pipe, and those that write it.
+func countEnds(s api.State, pipe int) (readers, writers int) {
+	for _, slot := range s.Slots {
+		for _, f := range slot.Files {
+			if f.Pipe == pipe && f.Writes {
+				writers++
+			} else if f.Pipe == pipe {
+				readers++
 			}
 		}
 	}
+	return readers, writers
+}
+
+// checkDucts: the ends are counted right, and there is a pipe just if it has one.
+func checkDucts(t *testing.T, s api.State) {
+	t.Helper()
 	for i, d := range s.Ducts {
-		if d.Readers != ends[i].Readers || d.Writers != ends[i].Writers {
-			t.Fatalf("pipe %d is %+v, the files of its ends are %+v", i, d, ends[i])
+		readers, writers := countEnds(s, i)
+		if d.Readers != readers || d.Writers != writers {
+			t.Fatalf("pipe %d is %+v, its files are %d and %d", i, d, readers, writers)
 		}
-		if (d.Frame == -1) != (d.Readers == 0 && d.Writers == 0) {
+		if (d.Frame == -1) != (readers == 0 && writers == 0) {
 			t.Fatalf("pipe %d is %+v", i, d)
 		}
-		if d.Frame == -1 {
-			if d != (api.Duct{Frame: -1}) {
-				t.Fatalf("there is no pipe %d, and it is %+v", i, d)
-			}
-			continue
+		if d.Frame == -1 && d != (api.Duct{Frame: -1}) {
+			t.Fatalf("there is no pipe %d, and it is %+v", i, d)
 		}
 		if d.Head < 0 || d.Head >= api.Words || d.Count < 0 || d.Count > api.Words {
 			t.Fatalf("pipe %d is %+v", i, d)
 		}
+	}
+}
+
+// checkFrames: each frame is used once, as it says; those that nobody uses are Free, without words.
+func checkFrames(t *testing.T, s api.State) {
+	t.Helper()
+	want := make([]api.Frame, len(s.Frames))
+	for i := range want {
+		want[i] = api.Frame{Kind: api.Free, Owner: -1}
+	}
+	use := func(frame, kind, owner int) {
+		if frame == -1 {
+			return
+		}
+		if want[frame].Kind != api.Free {
+			t.Fatalf("frame %d is used twice: %+v", frame, s)
+		}
+		want[frame] = api.Frame{Kind: kind, Owner: owner, Words: s.Frames[frame].Words}
+	}
+	for i, slot := range s.Slots {
+		if slot.Kind != api.None && slot.Table == -1 {
+			t.Fatalf("the process %d has no table", i)
+		}
+		use(slot.Table, api.Table, i)
+		for _, e := range slot.Pages {
+			use(e.Frame, api.Data, i)
+		}
+	}
+	for _, d := range s.Ducts {
 		use(d.Frame, api.Ring, -1)
 	}
 	if !reflect.DeepEqual(s.Frames, want) {
