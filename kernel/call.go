@@ -8,40 +8,56 @@ type thing int
 const (
 	anything thing = iota // of nothing: any value may stand there
 	aFrame
+	aSlot
 	aPipe
 	aPage
 	aFile
 	aWord
 )
 
-// row is a call: what its arguments number, and what does it. What does it may rely on its caller being Ready, and on these numbers.
+// row is a call: is there one, and what do its arguments number?
 type row struct {
-	args [3]thing
-	do   func(k *Kernel, slot int, args [3]int) (int, api.Errno)
+	there bool
+	args  [3]thing
 }
 
-// calls has each call at its number; a row that does nothing is no call.
+// calls has each call at its number. Which method does it, Kernel.do tells: the table holds numbers alone.
 var calls = makeCalls()
 
 func makeCalls() [api.Store + 1]row {
 	return [api.Store + 1]row{
-		api.Yield:   {do: (*Kernel).yield},
-		api.Map:     {args: [3]thing{aPage, aFrame}, do: (*Kernel).mapPage},
-		api.Unmap:   {args: [3]thing{aPage}, do: (*Kernel).unmap},
-		api.Protect: {args: [3]thing{aPage, anything}, do: (*Kernel).protect},
-		api.Pipe:    {args: [3]thing{aPipe, aFrame, aFile}, do: (*Kernel).pipe},
-		api.Dup:     {args: [3]thing{aFile, aFile}, do: (*Kernel).dup},
-		api.Close:   {args: [3]thing{aFile}, do: (*Kernel).close},
-		api.Write:   {args: [3]thing{aFile, aPage, aWord}, do: (*Kernel).write},
-		api.Read:    {args: [3]thing{aFile, aPage, aWord}, do: (*Kernel).read},
-		api.Load:    {args: [3]thing{aPage, aWord}, do: (*Kernel).load},
-		api.Store:   {args: [3]thing{aPage, aWord, anything}, do: (*Kernel).store},
+		api.Yield:   numbering(),
+		api.Map:     numbering(aPage, aFrame),
+		api.Unmap:   numbering(aPage),
+		api.Protect: numbering(aPage, anything),
+		api.Spawn:   numbering(aSlot, aFrame),
+		api.Copy:    numbering(aSlot, aPage, aFrame),
+		api.Give:    numbering(aSlot, aFile, aFile),
+		api.Start:   numbering(aSlot),
+		api.Exit:    numbering(anything),
+		api.Drop:    numbering(aSlot, aPage),
+		api.Shut:    numbering(aSlot, aFile),
+		api.Reap:    numbering(aSlot),
+		api.Pipe:    numbering(aPipe, aFrame, aFile),
+		api.Dup:     numbering(aFile, aFile),
+		api.Close:   numbering(aFile),
+		api.Write:   numbering(aFile, aPage, aWord),
+		api.Read:    numbering(aFile, aPage, aWord),
+		api.Load:    numbering(aPage, aWord),
+		api.Store:   numbering(aPage, aWord, anything),
 	}
+}
+
+// numbering is the row of a call whose first arguments are numbers of these things.
+func numbering(things ...thing) row {
+	r := row{there: true}
+	copy(r.args[:], things)
+	return r
 }
 
 // Call does a call of a process (P4 to P8).
 func (k *Kernel) Call(slot int, call int, args [3]int) (int, api.Errno) {
-	if !isOne(call, len(calls)) || calls[call].do == nil {
+	if !isOne(call, len(calls)) || !calls[call].there {
 		return 0, api.ErrCall
 	}
 	if !isOne(slot, len(k.slots)) || k.slots[slot].Kind != api.Ready {
@@ -52,7 +68,52 @@ func (k *Kernel) Call(slot int, call int, args [3]int) (int, api.Errno) {
 			return 0, api.ErrNumber
 		}
 	}
-	return calls[call].do(k, slot, args)
+	return k.do(slot, call, args)
+}
+
+// do lets a method do a call; it may rely on the caller being Ready, and on the numbers that the call's row tells of.
+func (k *Kernel) do(slot, call int, args [3]int) (int, api.Errno) {
+	switch call {
+	case api.Yield:
+		return 0, api.OK
+	case api.Map:
+		return k.mapPage(slot, args)
+	case api.Unmap:
+		return k.unmap(slot, args)
+	case api.Protect:
+		return k.protect(slot, args)
+	case api.Spawn:
+		return k.spawn(slot, args)
+	case api.Copy:
+		return k.copyPage(slot, args)
+	case api.Give:
+		return k.give(slot, args)
+	case api.Start:
+		return k.start(slot, args)
+	case api.Exit:
+		return k.exit(slot, args)
+	case api.Drop:
+		return k.drop(slot, args)
+	case api.Shut:
+		return k.shut(slot, args)
+	case api.Reap:
+		return k.reap(slot, args)
+	case api.Pipe:
+		return k.pipe(slot, args)
+	case api.Dup:
+		return k.dup(slot, args)
+	case api.Close:
+		return k.close(slot, args)
+	case api.Write:
+		return k.write(slot, args)
+	case api.Read:
+		return k.read(slot, args)
+	case api.Load:
+		return k.load(slot, args)
+	case api.Store:
+		return k.store(slot, args)
+	}
+	return 0, api.ErrCall
 }
 
 // isOne: is a number one of so many things?
@@ -62,6 +123,8 @@ func (k *Kernel) howMany(t thing) int {
 	switch t {
 	case aFrame:
 		return len(k.frames)
+	case aSlot:
+		return len(k.slots)
 	case aPipe:
 		return len(k.ducts)
 	case aPage:

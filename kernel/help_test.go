@@ -2,15 +2,16 @@ package kernel_test
 
 import (
 	"math"
-	"reflect"
+	"slices"
 	"testing"
 
 	"burrow/api"
 	"burrow/kernel"
 )
 
-// step is a call of the process 0, and what it must come to.
+// step is a call, by the process 0 if nothing else is said, and what it must come to.
 type step struct {
+	by      int
 	call    int
 	a, b, c int
 	want    int
@@ -33,13 +34,13 @@ func run(t *testing.T, k *kernel.Kernel, steps ...step) {
 	for i, s := range steps {
 		before := k.State()
 		args := [3]int{s.a, s.b, s.c}
-		got, err := k.Call(0, s.call, args)
+		got, err := k.Call(s.by, s.call, args)
 		if got != s.want || err != s.err {
-			t.Fatalf("step %d: Call(0, %d, %v) = %d, %d, want %d, %d", i, s.call, args, got, err, s.want, s.err)
+			t.Fatalf("step %d: Call(%d, %d, %v) = %d, %d, want %d, %d", i, s.by, s.call, args, got, err, s.want, s.err)
 		}
 		after := k.State()
-		if err != api.OK && !reflect.DeepEqual(before, after) {
-			t.Fatalf("step %d: Call(0, %d, %v) was refused, and made of %+v: %+v", i, s.call, args, before, after)
+		if err != api.OK && !sameState(before, after) {
+			t.Fatalf("step %d: Call(%d, %d, %v) was refused, and made of %+v: %+v", i, s.by, s.call, args, before, after)
 		}
 		checkBooks(t, after)
 	}
@@ -77,12 +78,16 @@ func firstState(c api.Config) api.State {
 	return s
 }
 
-// sameState: the lengths are asked as well, but nil is as good as a list without elements (P2).
+// sameState: nil is as good as a list without elements (P2).
 func sameState(a, b api.State) bool {
-	if len(a.Ducts) == 0 && len(b.Ducts) == 0 {
-		a.Ducts, b.Ducts = nil, nil
-	}
-	return reflect.DeepEqual(a, b)
+	return slices.Equal(a.Frames, b.Frames) && slices.Equal(a.Slots, b.Slots) && slices.Equal(a.Ducts, b.Ducts)
+}
+
+// changed is what was told, but for what the function writes into it.
+func changed(s api.State, change func(s *api.State)) api.State {
+	s = api.State{Frames: slices.Clone(s.Frames), Slots: slices.Clone(s.Slots), Ducts: slices.Clone(s.Ducts)}
+	change(&s)
+	return s
 }
 
 // checkBooks looks whether all that State tells fits together (P13, P3).
@@ -93,22 +98,39 @@ func checkBooks(t *testing.T, s api.State) {
 	checkFrames(t, s)
 }
 
-// checkSlots: what is not there tells nothing.
+// checkSlots: what is not there tells nothing; whose child a process is, is a process that may call.
 func checkSlots(t *testing.T, s api.State) {
 	t.Helper()
 	for i, slot := range s.Slots {
 		if slot.Kind == api.None && slot != emptySlot() {
 			t.Fatalf("the process %d is None, and has %+v", i, slot)
 		}
-		for j, e := range slot.Pages {
-			if e.Frame == -1 && e.Writes {
-				t.Fatalf("page %d of the process %d has no frame, and may be written", j, i)
-			}
+		if slot.Kind != api.None && (slot.Parent == -1) != (i == 0) {
+			t.Fatalf("the process %d is a child of %d", i, slot.Parent)
 		}
-		for j, f := range slot.Files {
-			if f.Pipe == -1 && f.Writes {
-				t.Fatalf("file %d of the process %d is none, and writes", j, i)
-			}
+		if slot.Parent != -1 && (slot.Parent == i || s.Slots[slot.Parent].Kind != api.Ready) {
+			t.Fatalf("the process %d is a child of %d, which is %+v", i, slot.Parent, s.Slots[slot.Parent])
+		}
+		if slot.Kind != api.Zombie && slot.Code != 0 {
+			t.Fatalf("the process %d has not ended, and has the Code %d", i, slot.Code)
+		}
+		checkPagesAndFiles(t, i, slot)
+	}
+	if s.Slots[0].Kind != api.Ready {
+		t.Fatalf("the process 0 is %+v", s.Slots[0])
+	}
+}
+
+func checkPagesAndFiles(t *testing.T, number int, slot api.Slot) {
+	t.Helper()
+	for i, e := range slot.Pages {
+		if e.Frame == -1 && e.Writes {
+			t.Fatalf("page %d of the process %d has no frame, and may be written", i, number)
+		}
+	}
+	for i, f := range slot.Files {
+		if f.Pipe == -1 && f.Writes {
+			t.Fatalf("file %d of the process %d is none, and writes", i, number)
 		}
 	}
 }
@@ -150,23 +172,37 @@ func checkDucts(t *testing.T, s api.State) {
 // checkFrames: each frame is used once, as it says; those that nobody uses are Free, without words.
 func checkFrames(t *testing.T, s api.State) {
 	t.Helper()
-	want := make([]api.Frame, len(s.Frames))
-	for i := range want {
-		want[i] = api.Frame{Kind: api.Free, Owner: -1}
+	for i, slot := range s.Slots {
+		if (slot.Kind == api.None) != (slot.Table == -1) {
+			t.Fatalf("the process %d has the table %d, and is %+v", i, slot.Table, slot)
+		}
 	}
+	want, twice := framesByUse(s)
+	if twice != -1 {
+		t.Fatalf("frame %d is used twice: %+v", twice, s)
+	}
+	if !slices.Equal(s.Frames, want) {
+		t.Fatalf("the frames are %+v, used as %+v", s.Frames, want)
+	}
+}
+
+// framesByUse tells what the frames must be, by the processes and pipes that have them, and one that is used twice (-1: none). The words of those in use are taken as they are.
+func framesByUse(s api.State) (frames []api.Frame, twice int) {
+	frames = make([]api.Frame, len(s.Frames))
+	for i := range frames {
+		frames[i] = api.Frame{Kind: api.Free, Owner: -1}
+	}
+	twice = -1
 	use := func(frame, kind, owner int) {
 		if frame == -1 {
 			return
 		}
-		if want[frame].Kind != api.Free {
-			t.Fatalf("frame %d is used twice: %+v", frame, s)
+		if frames[frame].Kind != api.Free {
+			twice = frame
 		}
-		want[frame] = api.Frame{Kind: kind, Owner: owner, Words: s.Frames[frame].Words}
+		frames[frame] = api.Frame{Kind: kind, Owner: owner, Words: s.Frames[frame].Words}
 	}
 	for i, slot := range s.Slots {
-		if slot.Kind != api.None && slot.Table == -1 {
-			t.Fatalf("the process %d has no table", i)
-		}
 		use(slot.Table, api.Table, i)
 		for _, e := range slot.Pages {
 			use(e.Frame, api.Data, i)
@@ -175,9 +211,7 @@ func checkFrames(t *testing.T, s api.State) {
 	for _, d := range s.Ducts {
 		use(d.Frame, api.Ring, -1)
 	}
-	if !reflect.DeepEqual(s.Frames, want) {
-		t.Fatalf("the frames are %+v, used as %+v", s.Frames, want)
-	}
+	return frames, twice
 }
 
 // farNumbers are numbers of no thing whatever.

@@ -19,8 +19,6 @@ func (k *Kernel) words(slot, page int) *[api.Words]int {
 	return &k.frames[k.slots[slot].Pages[page].Frame].Words
 }
 
-func (k *Kernel) yield(slot int, args [3]int) (int, api.Errno) { return 0, api.OK }
-
 func (k *Kernel) mapPage(slot int, args [3]int) (int, api.Errno) {
 	page, frame := args[0], args[1]
 	if k.hasFrame(slot, page) {
@@ -39,9 +37,14 @@ func (k *Kernel) unmap(slot int, args [3]int) (int, api.Errno) {
 	if !k.hasFrame(slot, page) {
 		return 0, api.ErrPage
 	}
+	k.freePage(slot, page)
+	return 0, api.OK
+}
+
+// freePage lets go of the frame of a page that has one.
+func (k *Kernel) freePage(slot, page int) {
 	k.become(k.slots[slot].Pages[page].Frame, api.Free, none)
 	k.slots[slot].Pages[page] = api.Entry{Frame: none}
-	return 0, api.OK
 }
 
 func (k *Kernel) protect(slot int, args [3]int) (int, api.Errno) {
