@@ -21,7 +21,7 @@ type row struct {
 	args  [3]thing
 }
 
-// calls has each call at its number. Which method does it, Kernel.do tells: the table holds numbers alone.
+// calls has each call at its number. Which method does it, Kernel.do tells: the table holds no functions.
 var calls = makeCalls()
 
 func makeCalls() [api.Store + 1]row {
