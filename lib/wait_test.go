@@ -84,19 +84,16 @@ func TestWaitKnowsTheBeginning(t *testing.T) {
 // Whatever Drop and Shut come to, the others are called; Reap is what it ends with.
 func TestWaitWhateverComes(t *testing.T) {
 	takings := []request{{api.Drop, [3]int{3, 0}}, {api.Drop, [3]int{3, 2}}, {api.Shut, [3]int{3, 1}}, {api.Shut, [3]int{3, 2}}}
-	for i, r := range takings {
+	for picks := 1; picks < len(takings); picks++ {
 		w := newFamily(t, 24)
 		w.begin(0, api.Wait, 0, 0)
-		w.picks(0, i)
-		before := w.slot(3)
-		w.ok(0, r.call, r.args[:]...)
-		if i == 0 { // ahead of the first pick: it is known that there is nothing to take
-			w.ends(0, 4, -5, api.OK)
-			continue
+		w.picks(0, picks)
+		for _, r := range takings[picks:] {
+			w.ok(0, r.call, r.args[:]...)
 		}
-		w.ends(0, 5-i, -5, api.OK)
-		if before.Kind != api.Zombie || w.slot(3).Kind != api.None {
-			t.Errorf("the child was %+v, and is %+v", before, w.slot(3))
+		w.ends(0, 5-picks, -5, api.OK)
+		if s := w.slot(3); s.Kind != api.None {
+			t.Errorf("the child is %+v", s)
 		}
 	}
 	w := newFamily(t, 24)
@@ -106,6 +103,15 @@ func TestWaitWhateverComes(t *testing.T) {
 		w.ok(0, r.call, r.args[:]...)
 	}
 	w.ends(0, 4, 0, api.ErrSlot)
+}
+
+// What was taken from the child ahead of the first pick is not asked for.
+func TestWaitForWhatIsLeft(t *testing.T) {
+	w := newFamily(t, 24)
+	w.begin(0, api.Wait, 0, 0)
+	w.ok(0, api.Drop, 3, 2)
+	w.ok(0, api.Shut, 3, 1)
+	w.ends(0, 3, -5, api.OK) // Drop(3, 0), Shut(3, 2), Reap(3)
 }
 
 // A slot that is another process by now is not taken apart, unless it may be.
